@@ -1,0 +1,1 @@
+"""Things kept as changes of others: rules for bases, and what they let become of stores."""
