@@ -1,6 +1,6 @@
 """Words, signs, ways, and the rules that tell which base is let by for a thing."""
 
-from packedbases.errors import BadArgument, BadKind, BadMeasure, BadRule
+from packedbases.errors import BadArgument, BadKind, BadMeasure, BadNumber, BadRule
 
 LETTERS = "abcdefghijklmnopqrstuvwxyz"
 LONGEST_WORD = 8
@@ -32,6 +32,17 @@ def is_integer(value):
     return isinstance(value, int) and not isinstance(value, bool)
 
 
+def is_between(value, least, greatest):
+    """Whether a value is an integer from a least one to a greatest one."""
+    return is_integer(value) and least <= value <= greatest
+
+
+def need_number(value, least, greatest):
+    """Refuse a value that is no integer from a least one to a greatest one."""
+    if not is_between(value, least, greatest):
+        raise BadNumber(value)
+
+
 def is_one_of(value, names):
     """Whether a value is one of some texts."""
     # A value of another kind is not compared, as its == may do anything.
@@ -50,6 +61,13 @@ def are_marks(value, measures):
     if not has_just_keys(value, measures):
         return False
     return all([is_integer(value[measure]) for measure in measures])
+
+
+def are_numbers(value, many):
+    """Whether a value is a tuple of so many integers."""
+    if not isinstance(value, tuple) or len(value) != many:
+        return False
+    return all([is_integer(number) for number in value])
 
 
 def are_kinds(value):
@@ -89,7 +107,7 @@ def are_ways(value, kinds, many):
 
 def is_limit(value, least):
     """Whether a value is no limit, or one from a least number on."""
-    return value is None or (is_integer(value) and least <= value <= GREATEST_LIMIT)
+    return value is None or is_between(value, least, GREATEST_LIMIT)
 
 
 def wrong_part(kinds, measures, ways, deep, tall, free):
@@ -236,6 +254,15 @@ def takes(way, kind, base_kind, stands):
     if way[0] != kind or way[1] != base_kind:
         return False
     return all([stand in SIGN_STANDS[sign] for sign, stand in zip(way[2], stands)])
+
+
+def limits_hold(rule, depth, height, inside):
+    """Whether the limits let by a base of a depth for a thing of a height, inside the base's chain or not."""
+    if rule.deep is not None and depth > rule.deep:
+        return False
+    if rule.tall is not None and depth + 1 + height > rule.tall:
+        return False
+    return not (rule.free and inside)
 
 
 def staying_places(rule):

@@ -13,6 +13,14 @@ FUNCTIONS = {
     "walks": {"is_walk": "(rule, value)", "is_good": "(rule, walk)", "good_walk": "(rule)",
               "ring_marks": "(rule, walk)"},
     "falling": {"paper_of": "(rule)", "is_paper": "(rule, value)", "falling": "(rule, paper, kind, marks)"},
+    "store": {"played": "(rule, script)"},
+    "rings": {"most_things": "(rule, packers)", "least_ring": "(rule, packers)", "closes": "(rule, packers)",
+              "ring_script": "(rule, packers)"},
+    "chains": {"longest": "(rule, packers)", "chain_walk": "(rule, length)",
+               "chain_deeds": "(rule, packers, length)", "count_walks": "(rule, kind, length)",
+               "count_closed": "(rule, length)", "count_good": "(rule, length)",
+               "shown_bound": "(rule, packers, paper)", "shows_endless": "(rule, packers, paper)",
+               "chain_paper": "(rule, packers)"},
 }
 METHODS = {
     "rules.Rule": {
@@ -21,8 +29,20 @@ METHODS = {
         "limited": "(self, *, deep=None, tall=None, free=False)",
         "lets_by": "(self, kind, marks, base_kind, base_marks)", "__len__": "(self)", "__contains__": "(self, x)",
         "__or__": "(self, other)", "__and__": "(self, other)", "__sub__": "(self, other)", "__eq__": "(self, other)"},
+    "store.Store": {
+        "__init__": "(self, rule)", "words": "(self)", "__contains__": "(self, x)", "__len__": "(self)",
+        "kind_of": "(self, word)", "marks_of": "(self, word)", "base_of": "(self, word)", "chain": "(self, word)",
+        "depth": "(self, word)", "height": "(self, word)", "forms": "(self)", "pending": "(self)", "ring": "(self)",
+        "put": "(self, word, kind, marks)", "mark": "(self, word, measure, number)", "whole": "(self, word)",
+        "lets_by": "(self, word, base)", "ask": "(self, packer, word, base)", "write": "(self, packer)",
+        "stop": "(self, packer)", "script": "(self)", "do": "(self, deed)"},
+    "given.Given": {
+        "__init__": "(self, rule, things)", "__getitem__": "(self, at)", "__contains__": "(self, x)",
+        "__len__": "(self)", "words": "(self)", "__eq__": "(self, other)", "bases": "(self, word)",
+        "longest": "(self, packers)", "chain": "(self, packers)", "ring": "(self, packers)",
+        "deeds": "(self, words, packers)", "ring_deeds": "(self, words, packers)"},
 }
-PROPERTIES = {"rules.Rule": ["deep", "tall", "free"]}
+PROPERTIES = {"rules.Rule": ["deep", "tall", "free"], "store.Store": ["rule"]}
 ERRORS = """BadArgument BadRule BadKind BadMeasure BadThing BadWord BadMarks BadBase BadPacker BadDeed BadNumber BadWalk
 BadPaper BadText BadChange BadWish BadCommand Ringed Lost TooMany Leaned BadEntry NothingLeft PackError""".split()
 
@@ -49,7 +69,7 @@ class InterfaceTest(unittest.TestCase):
             for method, arguments in methods.items():
                 self.assertIn(method, vars(told))
                 self.assertEqual(str(inspect.signature(vars(told)[method])), arguments, method)
-            for method in PROPERTIES[place]:
+            for method in PROPERTIES.get(place, []):
                 self.assertIsInstance(vars(told)[method], property)
 
     def test_errors(self):
