@@ -4,7 +4,7 @@ from packedbases.errors import BadKind
 from packedbases.links import chain_by, deeds_of, word_of
 from packedbases.rings import need_packers
 from packedbases.rules import is_integer, is_one_of, need_number, need_rule, staying_places
-from packedbases.walks import NO_SIGNS, STEPS, after_way, is_done
+from packedbases.walks import STEPS, after_way, is_done, state_at
 
 LONGEST_WALK = 60
 LONGEST_COUNT = 300
@@ -77,7 +77,7 @@ def count_good(rule, length):
     need_rule(rule)
     need_number(length, 1, LONGEST_GOOD)
     places = staying_places(rule)
-    counts = {(kind, kind, tuple([NO_SIGNS] * len(places))): 1 for kind in rule.kinds()}
+    counts = {state_at(kind, places): 1 for kind in rule.kinds()}
     for _ in range(length):
         longer = {}
         for state in counts:

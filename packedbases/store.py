@@ -13,9 +13,31 @@ DEED_PARTS = {"put": 4, "mark": 4, "whole": 2, "ask": 4, "write": 2, "stop": 2}
 
 def has_deed_form(value):
     """Whether a value is a tuple with the first text of a deed and as many parts."""
-    if not isinstance(value, tuple) or not value or not is_one_of(value[0], DEED_PARTS):
+    if not isinstance(value, tuple) or not value or not isinstance(value[0], str):
         return False
-    return len(value) == DEED_PARTS[value[0]]
+    return value[0] in DEED_PARTS and len(value) == DEED_PARTS[value[0]]
+
+
+def need_new(rule, held, word, kind):
+    """Refuse what is no word or is held already, then what is no kind of the rule."""
+    if not is_word(word) or word in held:
+        raise BadWord(word)
+    if not is_one_of(kind, rule.kinds()):
+        raise BadKind(kind)
+
+
+def need_marks(rule, marks):
+    """Refuse what is no dict of just the measures of the rule."""
+    if not are_marks(marks, rule.measures()):
+        raise BadMarks(marks)
+
+
+def need_move(rule, measure, number):
+    """Refuse what is no measure that moves, then what is no number for it."""
+    if not is_one_of(measure, rule.measures()) or rule.stays(measure):
+        raise BadMeasure(measure)
+    if not is_integer(number):
+        raise BadNumber(number)
 
 
 def played(rule, script):
@@ -117,10 +139,9 @@ class Store:
 
     def put(self, word, kind, marks):
         """Put a new whole thing."""
-        self._need_new(word, kind)
+        need_new(self._rule, self._bases, word, kind)
+        need_marks(self._rule, marks)
         measures = self._rule.measures()
-        if not are_marks(marks, measures):
-            raise BadMarks(marks)
         self._kinds[word] = kind
         self._marks[word] = {measure: marks[measure] for measure in measures}
         self._bases[word] = None
@@ -129,10 +150,7 @@ class Store:
     def mark(self, word, measure, number):
         """Set a number of a measure that moves."""
         self._need_thing(word)
-        if not is_one_of(measure, self._rule.measures()) or self._rule.stays(measure):
-            raise BadMeasure(measure)
-        if not is_integer(number):
-            raise BadNumber(number)
+        need_move(self._rule, measure, number)
         self._marks[word][measure] = number
         self._done.append(("mark", word, measure, number))
 
@@ -183,17 +201,11 @@ class Store:
             self.stop(deed[1])
 
     def _put_numbers(self, word, kind, numbers):
-        self._need_new(word, kind)
+        need_new(self._rule, self._bases, word, kind)
         measures = self._rule.measures()
         if not are_numbers(numbers, len(measures)):
             raise BadMarks(numbers)
         self.put(word, kind, dict(zip(measures, numbers)))
-
-    def _need_new(self, word, kind):
-        if not is_word(word) or word in self._bases:
-            raise BadWord(word)
-        if not is_one_of(kind, self._rule.kinds()):
-            raise BadKind(kind)
 
     def _need_thing(self, word):
         if not is_one_of(word, self._bases):

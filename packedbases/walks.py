@@ -92,6 +92,11 @@ def ring_numbers(signs):
     return [sum(steps[:at]) for at in range(len(steps))]
 
 
+def state_at(kind, places):
+    """The state of a walk without ways, at a kind."""
+    return (kind, kind, tuple([NO_SIGNS] * len(places)))
+
+
 def after_way(state, way, places):
     """The state of a walk with one more way: where it began, where it ends, what its signs let be."""
     start, _, lets = state
@@ -110,8 +115,7 @@ def shortest_walks(rule):
     places = staying_places(rule)
     walks = {}
     for way in rule.ways():
-        nothing = (way[0], way[0], tuple([NO_SIGNS] * len(places)))
-        state = after_way(nothing, way, places)
+        state = after_way(state_at(way[0], places), way, places)
         for follower in rule.ways_from(way[1]):
             walks.setdefault(after_way(state, follower, places), [way, follower])
     return walks

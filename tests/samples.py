@@ -2,6 +2,7 @@
 
 import random
 
+from packedbases.errors import PackError
 from packedbases.rules import Rule
 
 SIGNS = ["less", "upto", "same", "from", "more", "any"]
@@ -84,3 +85,16 @@ def sign_is_met(sign, number, base_number):
     """What [4] says of a sign, written once more."""
     return {"less": base_number < number, "upto": base_number <= number, "same": base_number == number,
             "from": base_number >= number, "more": base_number > number, "any": True}[sign]
+
+
+def field_of(error):
+    """The one value that an error tells of."""
+    return next(iter(vars(error).values()))
+
+
+def told_by(act):
+    """What a call tells, or the kind and the value of its error."""
+    try:
+        return act()
+    except PackError as error:
+        return type(error), field_of(error)

@@ -21,6 +21,13 @@ FUNCTIONS = {
                "count_closed": "(rule, length)", "count_good": "(rule, length)",
                "shown_bound": "(rule, packers, paper)", "shows_endless": "(rule, packers, paper)",
                "chain_paper": "(rule, packers)"},
+    "joins": {"rings_in": "(forms)", "depths_in": "(forms)", "joined": "(forms, other, taken)",
+              "joined_ring": "(rule, other)", "joins_safely": "(rule, other)", "keeps_apart": "(forms, other)"},
+    "live": {"made": "(base, change)", "cost_of": "(change)", "change_of": "(base, target)",
+             "least_cost": "(base, target)", "tried": "(live, words, bases)"},
+    "cells": {"cells_of": "(rule)", "cell_of": "(rule, kind, marks, base_kind, base_marks)"},
+    "compared": {"lets_choice": "(rule, choice)", "within": "(one, other)", "alike": "(one, other)",
+                 "parting": "(one, other)"},
 }
 METHODS = {
     "rules.Rule": {
@@ -41,6 +48,17 @@ METHODS = {
         "__len__": "(self)", "words": "(self)", "__eq__": "(self, other)", "bases": "(self, word)",
         "longest": "(self, packers)", "chain": "(self, packers)", "ring": "(self, packers)",
         "deeds": "(self, words, packers)", "ring_deeds": "(self, words, packers)"},
+    "live.Live": {
+        "__init__": "(self, rule)", "put": "(self, word, kind, marks, contents)",
+        "mark": "(self, word, measure, number)", "pack": "(self, word, base)", "whole": "(self, word)",
+        "__getitem__": "(self, at)", "__setitem__": "(self, at, worth)", "rewrite": "(self, word, contents)",
+        "drop": "(self, word)", "size": "(self, word)", "total": "(self)", "forms": "(self)", "depth": "(self, word)",
+        "__contains__": "(self, x)", "__len__": "(self)", "words": "(self)", "copy": "(self)", "trial": "(self)",
+        "__eq__": "(self, other)"},
+    "cells.Cells": {
+        "__init__": "(self, rule, cells)", "cells": "(self)", "__contains__": "(self, x)", "__len__": "(self)",
+        "__or__": "(self, other)", "__and__": "(self, other)", "__sub__": "(self, other)", "__invert__": "(self)",
+        "__le__": "(self, other)", "__eq__": "(self, other)", "__call__": "(self, kind)", "ways": "(self, most=12)"},
 }
 PROPERTIES = {"rules.Rule": ["deep", "tall", "free"], "store.Store": ["rule"]}
 ERRORS = """BadArgument BadRule BadKind BadMeasure BadThing BadWord BadMarks BadBase BadPacker BadDeed BadNumber BadWalk

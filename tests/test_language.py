@@ -29,6 +29,11 @@ hasattr help id importlib license locals methodcaller os quit setattr super type
 NO_WORDS = set("""type typing typing_extensions enum Enum IntEnum StrEnum Flag IntFlag Generic Protocol ABC ABCMeta
 namedtuple NamedTuple TypedDict TYPE_CHECKING abstractmethod dataclass overload contextmanager""".split())
 ON_THE_SPOT = {"zip", "enumerate", "reversed", "range"}
+OPERATORS = set("""__contains__ __getitem__ __eq__ __len__ __or__ __and__ __sub__ __add__ __invert__ __le__ __lt__
+__ge__ __gt__ __bool__""".split())
+# What is plainly a number or a string, and the keys that make it so.
+PLAIN_CALLS = {"int", "len", "str", "ord", "repr", "abs", "range"}
+PLAIN_KEYS = {"int", "len", "str"}
 CATCHABLE = {"KeyError", "ZeroDivisionError", "StopIteration"}
 STATEMENTS = (ast.Assign, ast.AugAssign, ast.If, ast.While, ast.For, ast.Return, ast.Break, ast.Continue, ast.Pass,
               ast.Raise, ast.Assert, ast.Delete, ast.Nonlocal, ast.Match, ast.With, ast.Try, ast.Expr, ast.Import,
@@ -38,6 +43,22 @@ PLAIN_NAME = re.compile(r"_?[A-Za-z][A-Za-z0-9_]*|_")
 
 def is_docstring(node):
     return isinstance(node, ast.Expr) and isinstance(node.value, ast.Constant) and isinstance(node.value.value, str)
+
+
+def is_plain(node):
+    """Whether an expression is plainly a number or a string, or a list of such."""
+    if isinstance(node, (ast.List, ast.ListComp)):
+        return all(map(is_plain, node.elts if isinstance(node, ast.List) else [node.elt]))
+    if isinstance(node, ast.BinOp):
+        return is_plain(node.left) and is_plain(node.right)
+    called = isinstance(node, ast.Call) and ast.unparse(node.func)
+    return isinstance(node, (ast.Constant, ast.JoinedStr)) or called in PLAIN_CALLS
+
+
+def is_plainly_ordered(node):
+    """Whether a call of sorted, min or max has a key, or takes what is plainly numbers or strings."""
+    keys = [ast.unparse(part.value) for part in node.keywords if part.arg == "key"]
+    return bool(keys) and keys[0] in PLAIN_KEYS or not keys and any(map(is_plain, node.args))
 
 
 def bound_names(tree):
@@ -163,6 +184,7 @@ class Look:
 
     def look_at_nodes(self, name, tree):
         parents = parents_of(tree)
+        self.look_at_tables(name, tree, parents)
         files_names = {alias.name for node in tree.body if isinstance(node, ast.ImportFrom) for alias in node.names}
         files_names |= {node.name for node in tree.body if isinstance(node, ast.ClassDef)}
         docstrings = {id(node.value) for node in ast.walk(tree) if is_docstring(node)}
@@ -184,6 +206,20 @@ class Look:
                     self.tell("L8", name, node.lineno)
             else:
                 self.look_at_other(name, node, parents)
+
+    def look_at_tables(self, name, tree, parents):
+        """Lists and dicts at module level are read where they stand, and not passed on."""
+        tables = {node.targets[0].id for tree in self.trees.values() for node in tree.body
+                  if isinstance(node, ast.Assign) and isinstance(node.value, (ast.List, ast.Dict))}
+        for node in ast.walk(tree):
+            if isinstance(node, ast.Name) and isinstance(node.ctx, ast.Load) and node.id in tables:
+                parent = parents[node]
+                called = isinstance(parent, ast.Call) and node in parent.args and (
+                    ast.unparse(parent.func) not in {"len", "sorted", "list", "dict", "tuple", "min", "max", "sum"})
+                kept = isinstance(parent, (ast.Return, ast.Assign, ast.List, ast.Tuple, ast.Dict, ast.Starred))
+                stored = isinstance(parent, ast.Subscript) and not isinstance(parent.ctx, ast.Load)
+                if called or kept or stored:
+                    self.tell("L15", name, node.lineno)
 
     def look_at_name(self, name, bound, line):
         if not PLAIN_NAME.fullmatch(bound) and bound not in DOUBLE:
@@ -207,6 +243,15 @@ class Look:
         told = [ast.unparse(part.value) for part in ast.walk(node) if isinstance(part, ast.Return) and part.value]
         if node.name == "__len__" and not all(text.startswith("len(") or text.isdigit() for text in told):
             self.tell("L28", name, node.lineno)
+        if node.name in OPERATORS and any(
+                isinstance(part, (ast.Attribute, ast.Subscript)) and not isinstance(part.ctx, ast.Load)
+                for part in ast.walk(node)):
+            self.tell("L5", name, node.lineno)
+        if node.name == "__exit__" and not all(
+                is_docstring(part) or isinstance(part, (ast.If, ast.Pass)) or isinstance(part, ast.Assign)
+                and isinstance(part.value, (ast.Attribute, ast.Name, ast.Constant)) for part in ast.walk(node)
+                if isinstance(part, ast.stmt) and part is not node):
+            self.tell("L6", name, node.lineno)
         for default in node.args.defaults + [part for part in node.args.kw_defaults if part]:
             if any(isinstance(part, (ast.List, ast.Dict, ast.Set, ast.Call)) for part in ast.walk(default)):
                 self.tell("L4", name, node.lineno)
@@ -221,6 +266,8 @@ class Look:
         plain = [item.name for item in methods if not item.decorator_list]
         if len(set(plain)) != len(plain):
             self.tell("L18", name, node.lineno)
+        if "__getitem__" in plain and "__iter__" not in plain:
+            self.tell("L5", name, node.lineno)
         stored = {part.attr for part in ast.walk(node) if isinstance(part, ast.Attribute)
                   and isinstance(part.ctx, ast.Store)}
         if stored & {item.name for item in methods}:
@@ -238,6 +285,12 @@ class Look:
                 self.tell("L25", name, line)
             return
         called = node.func.id if isinstance(node.func, ast.Name) else ""
+        if called in ("sorted", "min", "max") and not is_plainly_ordered(node):
+            self.tell("L5", name, line)
+        if called == "reversed" and not ast.unparse(node.args[0]).startswith(("range(", "list(", "sorted(", "tuple(")):
+            self.tell("L5", name, line)
+        if called == "set" and isinstance(parents[node], ast.Assign):
+            self.tell("L24", name, line)
         allowed = {"sorted": {"key", "reverse"}, "min": {"key", "default"}, "max": {"key", "default"},
                    "sum": {"start"}, "enumerate": {"start"}, "zip": {"strict"}}
         if called in BUILTINS and not {part.arg for part in node.keywords} <= allowed.get(called, set()):
@@ -299,6 +352,7 @@ class Look:
                 self.tell("L19", name, node.lineno)
 
 
+MODULES = "errors rules walks falling store rings chains given joins live cells compared".split()
 LONG = "def f(k):\n" + "    k += 1\n" * 40
 BAD = [
     ("L1", "Odd.py", ""), ("L2", "a.py", "import os\n"), ("L2", "a.py", "import packedbases.b\n"),
@@ -331,6 +385,13 @@ BAD = [
     ("L22", "a.py", "def f(k):\n    return int(k, base=3)\n"), ("L23", "a.py", "def f(k):\n    return range(k)\n"),
     ("L24", "a.py", "def f(k):\n    for n in set(k):\n        pass\n"),
     ("L25", "a.py", "def f(k):\n    return k.format(1)\n"), ("L25", "a.py", "def f(k):\n    k.sort(key=len)\n"),
+    ("L5", "a.py", "def f(k):\n    return sorted(k)\n"), ("L5", "a.py", "def f(k, n):\n    return min(k, n)\n"),
+    ("L5", "a.py", "def f(k):\n    return max(k, key=f)\n"), ("L5", "a.py", "def f(k):\n    return list(reversed(k))\n"),
+    ("L5", "a.py", "class C:\n    def __getitem__(self, at):\n        return at\n"),
+    ("L5", "a.py", "class C:\n    def __contains__(self, at):\n        self.n = at\n        return True\n"),
+    ("L6", "a.py", "class C:\n    def __exit__(self, kind, value, trace):\n        self.n = f(1)\n"),
+    ("L15", "a.py", "K = {1: 2}\ndef f():\n    return f(K)\n"), ("L15", "a.py", "K = [1]\ndef f():\n    return K\n"),
+    ("L15", "a.py", "K = {1: 2}\ndef f():\n    K[1] = 3\n"), ("L24", "a.py", "def f():\n    k = set()\n"),
     ("L27", "a.py", "K = \"5%\"\n"), ("L27", "a.py", "def f(k):\n    return 2 ** k\n"),
     ("L28", "a.py", "class C:\n    def __len__(self):\n        return self.n\n"),
 ]
@@ -357,6 +418,7 @@ class C:
 
 def f(k, *, most=-1):
     rows = sorted([n for n in k], key=str)
+    rows.append(max([len(n) for n in rows]) + min(3, most) + len(K) + K["a"][0])
     for at, _ in enumerate(rows):
         if len(set(rows)) == at or k is None:
             raise ValueError("too many")
@@ -372,7 +434,7 @@ class LanguageTest(unittest.TestCase):
 
     def test_the_files_keep_to_the_subset(self):
         texts = {path.name: path.read_text(encoding="utf-8") for path in PACKAGE.glob("*.py")}
-        self.assertGreaterEqual(set(texts), {"errors.py", "rules.py", "walks.py", "falling.py"})
+        self.assertGreaterEqual(set(texts), {f"{name}.py" for name in MODULES})
         self.assertEqual(Look(texts).found, [])
 
     def test_the_script_finds_each_fault(self):

@@ -9,25 +9,12 @@ from packedbases.errors import (BadArgument, BadBase, BadDeed, BadKind, BadMarks
                                 BadThing, BadWord, Lost, PackError, Ringed)
 from packedbases.rules import Rule
 from packedbases.store import Store, played
-from samples import ANY, SIGNS, Nasty, odd_values, random_rule
+from samples import ANY, SIGNS, Nasty, field_of, odd_values, random_rule, told_by
 
 FREELY = Rule(["k"], {"m": True}, [ANY])
 MOVING = Rule(["k"], {"a": False, "m": True}, [("k", "k", ("less", "any"))])
 NO_PACKERS = [0, -1, 10, True, False, None, 1.0, "1", [1], (1,), {}, {1: 1}, ([],), 10 ** 30, Nasty()]
 NO_NUMBERS = [True, False, None, 1.0, "1", [1], (1,), {}, b"1", ([],), Nasty()]
-
-
-def field_of(error):
-    """The one value that an error tells of."""
-    return next(iter(vars(error).values()))
-
-
-def told_by(act):
-    """What a call tells, or the kind and the value of its error."""
-    try:
-        return act()
-    except PackError as error:
-        return type(error), field_of(error)
 
 
 def all_of(store):
