@@ -34,7 +34,8 @@ def need_marks(rule, marks):
 
 def need_move(rule, measure, number):
     """Refuse what is no measure that moves, then what is no number for it."""
-    if not is_one_of(measure, rule.measures()) or rule.stays(measure):
+    # What is no measure at all is refused by the rule itself, with the same error.
+    if rule.stays(measure):
         raise BadMeasure(measure)
     if not is_integer(number):
         raise BadNumber(number)

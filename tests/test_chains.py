@@ -384,6 +384,13 @@ class PaperTest(unittest.TestCase):
                 for packers in (1, 2):
                     self.assertIsNone(self.told(LINE, packers, paper))
 
+    def test_papers_under_other_names(self):
+        tall, endless = FREELY.limited(tall=4), FREELY
+        for name in ("walk", "steps", "tall", "Tall", "odd", ""):
+            self.assertEqual(self.told(tall, 1, (name, 4)), 4 if name == "tall" else None)
+            self.assertEqual(self.told(endless, 1, (name, [ANY])), "endless" if name == "walk" else None)
+            self.assertEqual(self.told(LINE, 1, (name, STEPS)), 2 if name == "steps" else None)
+
     def test_papers_of_any_author(self):
         told = {}
         for seed in range(4000):

@@ -75,7 +75,7 @@ class Case(unittest.TestCase):
             act(*parts)
         self.assertIs(type(caught.exception), kind)
         told = caught.exception.value
-        self.assertTrue(told is value or type(value) is int and told == value, (told, value))
+        self.assertTrue(told is value or type(value) in (int, list) and told == value, (told, value))
 
 
 class GivenTest(Case):
@@ -193,11 +193,11 @@ class ChainTest(Case):
                 self.assertEqual(given.longest(packers), max(reached(4, leans, (None, tall, False), packers)[1]))
 
     def test_packers(self):
-        given = freely(3)
-        for value in NO_PACKERS:
-            for act in (given.longest, given.chain, given.ring):
-                self.refused(BadNumber, value, act, value)
-                self.refused(BadNumber, value, lambda: act(packers=value))
+        for given in (freely(3), freely(1), Given(LINE, THINGS)):
+            for value in NO_PACKERS:
+                for act in (given.longest, given.chain, given.ring):
+                    self.refused(BadNumber, value, act, value)
+                    self.refused(BadNumber, value, lambda: act(packers=value))
 
 
 class RingTest(Case):
@@ -374,6 +374,9 @@ class DeedsTest(Case):
             for packers in (1, None, 0, 10):
                 self.refused(BadWalk, value, given.deeds, value, packers)
                 self.refused(BadWalk, value, given.ring_deeds, value, packers)
+        for words in ("aba", "abca", "aa", "abb", "ababab"):
+            self.refused(BadWalk, list(words), freely(3).deeds, list(words), 2)
+            self.refused(BadWalk, list(words), freely(3).ring_deeds, list(words), 2)
         for words in (["x"], ["x", "y"], ["x", "y", "z"]):
             self.refused(BadWalk, words, given.ring_deeds, words, None)
             for value in NO_PACKERS:

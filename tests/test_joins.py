@@ -89,6 +89,7 @@ class FormsTest(Case):
                 self.refused(BadArgument, value, joined, good, value, taken)
             self.refused(BadArgument, value, keeps_apart, value, value)
             self.refused(BadArgument, value, keeps_apart, good, value)
+            self.refused(BadArgument, value, keeps_apart, value, good)
             self.refused(BadArgument, value, lambda: keeps_apart(other=value, forms=good))
 
 

@@ -240,6 +240,18 @@ class LiveTest(Case):
         for number in [True, None, 1.0, "1", [1], Nasty()]:
             self.refused(BadNumber, number, live.mark, "a", "a", number, store=live)
 
+    def test_marks_of_three_measures(self):
+        stays = {"a": False, "b": False, "c": False}
+        live = filled(Rule(["k"], stays, [("k", "k", ("less", "more", "same"))]), x=[1], y=[2])
+        for measure, number in (("a", 4), ("b", 3), ("c", 5)):
+            self.refused(BadBase, "y", live.pack, "x", "y", store=live)
+            live.mark("x", measure, number)
+        live.mark("y", "b", 4)
+        self.refused(BadBase, "y", live.pack, "x", "y", store=live)
+        live.mark("y", "c", 5)
+        live.pack("x", "y")
+        self.assertEqual(live.forms(), {"x": "y", "y": None})
+
     def test_limits_by_the_forms_that_are_written_now(self):
         live = filled(FREELY.limited(deep=1), a=[1], b=[2], c=[3], d=[4])
         live.pack("a", "b")
@@ -446,6 +458,9 @@ class TrialTest(Case):
                 (["a", "b"], ["c", None], BadWord, None), (["a", "b"], ["c", "b"], BadBase, "b"),
                 (["a", []], ["c", {}], BadWord, [])):
             self.refused(kind, value, tried, live, words, bases, store=live)
+        for words in (("a",), "a", {"a": 1}, None):
+            self.refused(BadArgument, words, tried, live, words, ["b"], store=live)
+            self.refused(BadArgument, words, tried, live, words, None, store=live)
         for value in odd_values():
             self.refused(BadArgument, value, tried, value, value, value)
             if not isinstance(value, list):
