@@ -232,7 +232,7 @@ class WaysTest(Case):
         for seed in range(150):
             draw = random.Random(seed)
             ways = [("k", "k", tuple(draw.choice(SIGNS) for _ in range(3))) for _ in range(draw.randint(1, 7))]
-            cells = list(cells_of_ways(ways))
+            cells = in_order(cells_of_ways(ways))
             if seed % 3 == 0:
                 cells = draw.sample(cells, min(len(cells), 5))
             boxes = [frozenset(cells_of_ways([("k", "k", signs)])) for signs in itertools.product(SIGNS, repeat=3)]
@@ -252,8 +252,8 @@ class WaysTest(Case):
             cells, fewest = [], 0
             for kind, base in pairs:
                 ways = [(kind, base, (draw.choice(SIGNS), draw.choice(SIGNS))) for _ in range(draw.randint(1, 3))]
-                cells += cells_of_ways(ways)
-                fewest += fewest_by_search(list(cells_of_ways(ways)), 3)
+                cells += in_order(cells_of_ways(ways))
+                fewest += fewest_by_search(in_order(cells_of_ways(ways)), 3)
             self.check(rule, cells, fewest)
 
     def test_twelve_and_thirteen(self):
