@@ -28,6 +28,12 @@ FUNCTIONS = {
     "cells": {"cells_of": "(rule)", "cell_of": "(rule, kind, marks, base_kind, base_marks)"},
     "compared": {"lets_choice": "(rule, choice)", "within": "(one, other)", "alike": "(one, other)",
                  "parting": "(one, other)"},
+    "keepings": {"all_keepings": "()", "deeds_at": "(keeping, standing)"},
+    "losses": {"loses": "(keeping)", "loss_script": "(keeping)", "loss_scripts": "(keeping)",
+               "standings_of": "(keeping)", "lacking": "(keeping, table)", "safe_keepings": "()",
+               "is_shown": "(keeping, value)"},
+    "mends": {"greatest_limits": "(rule, packers)", "widest": "(rule, packers)"},
+    "sessions": {"attempted": "(session, changes, *, fast=False)"},
 }
 METHODS = {
     "rules.Rule": {
@@ -59,8 +65,17 @@ METHODS = {
         "__init__": "(self, rule, cells)", "cells": "(self)", "__contains__": "(self, x)", "__len__": "(self)",
         "__or__": "(self, other)", "__and__": "(self, other)", "__sub__": "(self, other)", "__invert__": "(self)",
         "__le__": "(self, other)", "__eq__": "(self, other)", "__call__": "(self, kind)", "ways": "(self, most=12)"},
+    "keepings.Keeping": {"__init__": "(self, drop, order, stops)", "__eq__": "(self, other)"},
+    "mends.Mend": {"__init__": "(self, rule, menu, wishes)", "behind": "(self, picks)", "unmet": "(self, picks)",
+                   "good": "(self)", "least": "(self)", "__len__": "(self)"},
+    "sessions.Session": {
+        "__init__": "(self, rule)", "result": "(self)", "add": "(self, way)", "strike": "(self, way)",
+        "limit": "(self, *, deep=None, tall=None, free=False)", "undo": "(self)", "__len__": "(self)"},
+    "sessions.Attempt": {"__init__": "(self, session)", "hold_fast": "(self)", "__enter__": "(self)",
+                         "__exit__": "(self, kind, value, trace)"},
 }
 PROPERTIES = {"rules.Rule": ["deep", "tall", "free"], "store.Store": ["rule"]}
+GENERATORS = ["keepings.all_keepings", "losses.loss_scripts", "mends.Mend.good"]
 ERRORS = """BadArgument BadRule BadKind BadMeasure BadThing BadWord BadMarks BadBase BadPacker BadDeed BadNumber BadWalk
 BadPaper BadText BadChange BadWish BadCommand Ringed Lost TooMany Leaned BadEntry NothingLeft PackError""".split()
 
@@ -89,6 +104,14 @@ class InterfaceTest(unittest.TestCase):
                 self.assertEqual(str(inspect.signature(vars(told)[method])), arguments, method)
             for method in PROPERTIES.get(place, []):
                 self.assertIsInstance(vars(told)[method], property)
+
+    def test_generators(self):
+        for place in GENERATORS:
+            module, *names = place.split(".")
+            told = importlib.import_module(f"packedbases.{module}")
+            for name in names:
+                told = getattr(told, name)
+            self.assertTrue(inspect.isgeneratorfunction(told), place)
 
     def test_errors(self):
         self.assertEqual(defined_in("errors"), set(ERRORS))

@@ -34,6 +34,9 @@ __ge__ __gt__ __bool__""".split())
 # What is plainly a number or a string, and the keys that make it so.
 PLAIN_CALLS = {"int", "len", "str", "ord", "repr", "abs", "range"}
 PLAIN_KEYS = {"int", "len", "str"}
+# What iterates over a generator at once.
+ITERATING = {"list", "tuple", "dict", "enumerate", "zip"}
+CHANGING = set("append clear extend insert pop remove reverse setdefault update add discard sort".split())
 CATCHABLE = {"KeyError", "ZeroDivisionError", "StopIteration"}
 STATEMENTS = (ast.Assign, ast.AugAssign, ast.If, ast.While, ast.For, ast.Return, ast.Break, ast.Continue, ast.Pass,
               ast.Raise, ast.Assert, ast.Delete, ast.Nonlocal, ast.Match, ast.With, ast.Try, ast.Expr, ast.Import,
@@ -59,6 +62,20 @@ def is_plainly_ordered(node):
     """Whether a call of sorted, min or max has a key, or takes what is plainly numbers or strings."""
     keys = [ast.unparse(part.value) for part in node.keywords if part.arg == "key"]
     return bool(keys) and keys[0] in PLAIN_KEYS or not keys and any(map(is_plain, node.args))
+
+
+def is_iterated(node, parent):
+    """Whether a call of a generator is iterated at once."""
+    if isinstance(parent, (ast.For, ast.comprehension)):
+        return parent.iter is node
+    return isinstance(parent, ast.YieldFrom) or (
+        isinstance(parent, ast.Call) and ast.unparse(parent.func) in ITERATING and node in parent.args)
+
+
+def is_own_list(node):
+    """Whether a value is a list that is created on the spot."""
+    made = isinstance(node, ast.Call) and ast.unparse(node.func) in ("list", "sorted")
+    return made or isinstance(node, (ast.List, ast.ListComp))
 
 
 def bound_names(tree):
@@ -106,6 +123,8 @@ class Look:
             self.look_at_module(name, self.trees[name])
             self.look_at_nodes(name, self.trees[name])
         self.look_at_imports()
+        self.look_at_generators()
+        self.look_at_what_operators_run()
 
     def tell(self, rule, name, line):
         self.found.append((rule, name, line))
@@ -220,6 +239,51 @@ class Look:
                 stored = isinstance(parent, ast.Subscript) and not isinstance(parent.ctx, ast.Load)
                 if called or kept or stored:
                     self.tell("L15", name, node.lineno)
+
+    def look_at_generators(self):
+        """Generators yield in statements of their own, and are iterated where they are called."""
+        functions = [(name, node) for name, tree in self.trees.items() for node in ast.walk(tree)
+                     if isinstance(node, ast.FunctionDef)]
+        generators = [(name, node) for name, node in functions
+                      if any(isinstance(part, (ast.Yield, ast.YieldFrom)) for part in ast.walk(node))]
+        names = {node.name for _, node in generators}
+        for name, node in generators:
+            parents = parents_of(node)
+            if [other.name for _, other in functions].count(node.name) > 1 or node.name in METHODS | DOUBLE:
+                self.tell("L23", name, node.lineno)
+            for part in ast.walk(node):
+                alone = not isinstance(part, (ast.Yield, ast.YieldFrom)) or isinstance(parents[part], ast.Expr)
+                if not alone or isinstance(part, (ast.Try, ast.With)) or isinstance(part, ast.Return) and part.value:
+                    self.tell("L23", name, part.lineno)
+        for name, tree in self.trees.items():
+            parents = parents_of(tree)
+            for node in ast.walk(tree):
+                told = node.id if isinstance(node, ast.Name) else node.attr if isinstance(node, ast.Attribute) else ""
+                call = parents.get(node)
+                if told in names and not (isinstance(call, ast.Call) and call.func is node
+                                          and is_iterated(call, parents[call])):
+                    self.tell("L23", name, node.lineno)
+
+    def look_at_what_operators_run(self):
+        """Operators, properties and all that they call change nothing but lists that they made themselves."""
+        functions = [(name, node) for name, tree in self.trees.items() for node in ast.walk(tree)
+                     if isinstance(node, ast.FunctionDef)]
+        run = [(name, node) for name, node in functions
+               if node.name in OPERATORS or "property" in [ast.unparse(part) for part in node.decorator_list]]
+        for name, node in run:
+            called = {part.func.id if isinstance(part.func, ast.Name) else part.func.attr
+                      for part in ast.walk(node) if isinstance(part, ast.Call)
+                      and isinstance(part.func, (ast.Name, ast.Attribute))} - METHODS
+            run += [pair for pair in functions if pair[1].name in called and pair not in run]
+        for name, node in run:
+            made = {part.targets[0].id for part in ast.walk(node) if isinstance(part, ast.Assign)
+                    and isinstance(part.targets[0], ast.Name) and is_own_list(part.value)}
+            for part in ast.walk(node):
+                stored = isinstance(part, (ast.Attribute, ast.Subscript)) and not isinstance(part.ctx, ast.Load)
+                changed = (isinstance(part, ast.Call) and isinstance(part.func, ast.Attribute)
+                           and part.func.attr in CHANGING and ast.unparse(part.func.value) not in made)
+                if stored or changed:
+                    self.tell("L5", name, part.lineno)
 
     def look_at_name(self, name, bound, line):
         if not PLAIN_NAME.fullmatch(bound) and bound not in DOUBLE:
@@ -352,7 +416,7 @@ class Look:
                 self.tell("L19", name, node.lineno)
 
 
-MODULES = "errors rules walks falling store rings chains given joins live cells compared".split()
+MODULES = "errors rules walks falling store rings chains given joins live cells compared keepings losses mends sessions".split()
 LONG = "def f(k):\n" + "    k += 1\n" * 40
 BAD = [
     ("L1", "Odd.py", ""), ("L2", "a.py", "import os\n"), ("L2", "a.py", "import packedbases.b\n"),
@@ -383,6 +447,13 @@ BAD = [
     ("L19", "a.py", "def f():\n    try:\n        pass\n    except TypeError:\n        pass\n"),
     ("L20", "a.py", "def f(k, n):\n    return k is n\n"), ("L21", "a.py", "def f(k: int):\n    pass\n"),
     ("L22", "a.py", "def f(k):\n    return int(k, base=3)\n"), ("L23", "a.py", "def f(k):\n    return range(k)\n"),
+    ("L23", "a.py", "def f(k):\n    yield k\ndef h(k):\n    return f(k)\n"),
+    ("L23", "a.py", "def f(k):\n    yield k\ndef h(k):\n    return sorted(f(k), key=str)\n"),
+    ("L23", "a.py", "def f(k):\n    yield k\nclass C:\n    def f(self):\n        pass\n"),
+    ("L23", "a.py", "def f(k):\n    n = yield k\n"), ("L23", "a.py", "def f(k):\n    yield k\n    return k\n"),
+    ("L23", "a.py", "def items(k):\n    yield k\n"), ("L23", "a.py", "def f(k):\n    with k:\n        yield k\n"),
+    ("L5", "a.py", "def f(k):\n    k.append(1)\nclass C:\n    def __contains__(self, n):\n        return f(n)\n"),
+    ("L5", "a.py", "def f(k):\n    n = {}\n    n[k] = 1\nclass C:\n    def __add__(self, n):\n        return f(n)\n"),
     ("L24", "a.py", "def f(k):\n    for n in set(k):\n        pass\n"),
     ("L25", "a.py", "def f(k):\n    return k.format(1)\n"), ("L25", "a.py", "def f(k):\n    k.sort(key=len)\n"),
     ("L5", "a.py", "def f(k):\n    return sorted(k)\n"), ("L5", "a.py", "def f(k, n):\n    return min(k, n)\n"),
@@ -423,6 +494,16 @@ def f(k, *, most=-1):
         if len(set(rows)) == at or k is None:
             raise ValueError("too many")
     return all([n != most for n in rows])
+
+
+def told(k):
+    for n in k:
+        yield n
+
+
+def h(k):
+    rows = list(told(k))
+    return [n for n in told(k) if n in rows]
 """
 
 
