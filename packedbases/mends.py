@@ -2,6 +2,7 @@
 
 from packedbases.chains import longest
 from packedbases.errors import BadChange, BadWish
+from packedbases.parts import is_smaller_part, sets_below
 from packedbases.rings import closes, is_let_round, least_walk, need_packers
 from packedbases.rules import GREATEST_LIMIT, is_between, is_integer, need_rule, with_ways
 from packedbases.store import MOST_PACKERS
@@ -139,21 +140,6 @@ def is_set(value, many):
     if not isinstance(value, tuple) or not all([is_between(at, 0, many - 1) for at in value]):
         return False
     return all([at < behind for at, behind in zip(value, value[1:])])
-
-
-def sets_below(many):
-    """The list of all sets of indexes below a number, by size and then ascending."""
-    sets = [()]
-    layer = [()]
-    for _ in range(many):
-        layer = [picks + (at,) for picks in layer for at in range(many) if not picks or at > picks[-1]]
-        sets = sets + layer
-    return sets
-
-
-def is_smaller_part(part, whole):
-    """Whether all members of a part are in a whole that has more."""
-    return len(part) < len(whole) and all([member in whole for member in part])
 
 
 def mended(rule, repairs):

@@ -34,6 +34,10 @@ FUNCTIONS = {
                "is_shown": "(keeping, value)"},
     "mends": {"greatest_limits": "(rule, packers)", "widest": "(rule, packers)"},
     "sessions": {"attempted": "(session, changes, *, fast=False)"},
+    "notes": {"write_rule": "(rule)", "read_rule": "(text)", "write_script": "(script)", "read_script": "(text)",
+              "write_paper": "(rule, paper)", "read_paper": "(rule, text)"},
+    "orders": {"replayed": "(given, packers, deeds)"},
+    "packs": {"packs_of": "(forms)"},
 }
 METHODS = {
     "rules.Rule": {
@@ -73,9 +77,20 @@ METHODS = {
         "limit": "(self, *, deep=None, tall=None, free=False)", "undo": "(self)", "__len__": "(self)"},
     "sessions.Attempt": {"__init__": "(self, session)", "hold_fast": "(self)", "__enter__": "(self)",
                          "__exit__": "(self, kind, value, trace)"},
+    "consoles.Console": {"__init__": "(self, rule)", "execute": "(self, line)"},
+    "orders.Orders": {"__init__": "(self, given, packers)", "ring_deeds": "(self)", "chain_deeds": "(self, length)",
+                      "counts": "(self)", "lost_forms": "(self)"},
+    "packs.Packs": {
+        "__init__": "(self, packs=())", "rows": "(self)", "words": "(self)", "__len__": "(self)",
+        "__getitem__": "(self, at)", "__contains__": "(self, x)", "__add__": "(self, other)",
+        "__le__": "(self, other)", "__eq__": "(self, other)", "trail": "(self, word, reader)",
+        "makes": "(self, word, reader)", "lost": "(self, reader)", "needless": "(self, reader)",
+        "folded": "(self, reader)", "least_packs": "(self, reader)", "trimmed": "(self, number, words)"},
 }
-PROPERTIES = {"rules.Rule": ["deep", "tall", "free"], "store.Store": ["rule"]}
-GENERATORS = ["keepings.all_keepings", "losses.loss_scripts", "mends.Mend.good"]
+PROPERTIES = {"rules.Rule": ["deep", "tall", "free"], "store.Store": ["rule"], "orders.Orders": ["amount"]}
+STATIC = {"packs.Packs": {"wholes": "(words)"}}
+GENERATORS = ["keepings.all_keepings", "losses.loss_scripts", "mends.Mend.good", "orders.Orders.lost_forms",
+              "packs.Packs.trail"]
 ERRORS = """BadArgument BadRule BadKind BadMeasure BadThing BadWord BadMarks BadBase BadPacker BadDeed BadNumber BadWalk
 BadPaper BadText BadChange BadWish BadCommand Ringed Lost TooMany Leaned BadEntry NothingLeft PackError""".split()
 
@@ -104,6 +119,9 @@ class InterfaceTest(unittest.TestCase):
                 self.assertEqual(str(inspect.signature(vars(told)[method])), arguments, method)
             for method in PROPERTIES.get(place, []):
                 self.assertIsInstance(vars(told)[method], property)
+            for method, arguments in STATIC.get(place, {}).items():
+                self.assertIsInstance(vars(told)[method], staticmethod)
+                self.assertEqual(str(inspect.signature(getattr(told, method))), arguments, method)
 
     def test_generators(self):
         for place in GENERATORS:

@@ -416,7 +416,8 @@ class Look:
                 self.tell("L19", name, node.lineno)
 
 
-MODULES = "errors rules walks falling store rings chains given joins live cells compared keepings losses mends sessions".split()
+MODULES = """errors rules walks falling store rings chains given joins live cells compared keepings losses mends sessions
+consoles notes orders packs""".split()
 LONG = "def f(k):\n" + "    k += 1\n" * 40
 BAD = [
     ("L1", "Odd.py", ""), ("L2", "a.py", "import os\n"), ("L2", "a.py", "import packedbases.b\n"),
