@@ -124,7 +124,8 @@ def longest_in(forms):
     """The greatest length of a chain of forms, None if there is a ring."""
     if rings_among(forms):
         return None
-    return max([len(chain_in(forms, word)) - 1 for word in forms])
+    # The length is the number of changes, one less than that of the words.
+    return max([len(chain_in(forms, word)) for word in forms]) - 1
 
 
 def pairs_let(given, forms):
