@@ -57,22 +57,21 @@ class Attempt:
     def __init__(self, session):
         need_session(session)
         self._session = session
-        self._ahead = session._rules
-        self._fast = False
+        # The rules to which the session goes back behind the block, None where it goes back to none.
+        self._ahead = None
 
     def __enter__(self):
         # What was told ahead of the block does nothing.
         self._ahead = self._session._rules
-        self._fast = False
         return self
 
     def __exit__(self, kind, value, trace):
-        if not self._fast:
+        if self._ahead is not None:
             self._session._rules = self._ahead
 
     def hold_fast(self):
         """Let what the block does to the session stay."""
-        self._fast = True
+        self._ahead = None
 
 
 def attempted(session, changes, *, fast=False):

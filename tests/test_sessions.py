@@ -2,6 +2,8 @@
 
 import random
 import unittest
+from contextlib import nullcontext
+from itertools import product
 
 from packedbases.errors import BadArgument, BadChange, BadRule, NothingLeft, PackError
 from packedbases.rules import Rule
@@ -273,6 +275,98 @@ class AttemptTest(Case):
                 self.session.limit(deep=4)
             self.assertEqual(self.session.result().deep, 2)
         self.look(self.ahead, 2)
+
+    def test_blocks_in_blocks_that_hold_fast_or_not_and_end_or_are_left(self):
+        first, second = one_measure(["more", "same"]).limited(deep=3), one_measure(["same"]).limited(deep=3)
+        for outer_fast, inner_fast, inner_left, outer_left in product((False, True), repeat=4):
+            self.setUp()
+            inner_rule, inner_many = (second, 4) if inner_fast else (first, 3)
+            with self.assertRaises(Fault) if outer_left else nullcontext():
+                with Attempt(self.session) as outer:
+                    self.session.strike(LESS)
+                    if outer_fast:
+                        outer.hold_fast()
+                    with self.assertRaises(Fault) if inner_left else nullcontext():
+                        with Attempt(self.session) as inner:
+                            self.session.strike(MORE)
+                            if inner_fast:
+                                inner.hold_fast()
+                            if inner_left:
+                                raise Fault()
+                            self.look(second, 4)
+                    self.look(inner_rule, inner_many)
+                    if outer_left:
+                        raise Fault()
+            self.look(*(inner_rule, inner_many) if outer_fast else (self.ahead, 2))
+
+    def test_an_inner_block_that_holds_its_outer_one_fast(self):
+        with Attempt(self.session) as outer:
+            with Attempt(self.session):
+                self.session.strike(LESS)
+                outer.hold_fast()
+            self.look(self.ahead, 2)
+            self.session.strike(MORE)
+        self.look(one_measure(["less", "same"]).limited(deep=3), 3)
+
+    def test_an_error_that_leaves_both_blocks(self):
+        for outer_fast, inner_fast in product((False, True), repeat=2):
+            self.setUp()
+            with self.assertRaises(Fault):
+                with Attempt(self.session) as outer:
+                    self.session.strike(LESS)
+                    if outer_fast:
+                        outer.hold_fast()
+                    with Attempt(self.session) as inner:
+                        self.session.strike(MORE)
+                        if inner_fast:
+                            inner.hold_fast()
+                        raise Fault()
+            kept = one_measure(["same"] if inner_fast else ["more", "same"]).limited(deep=3)
+            self.look(*(kept, 3 + inner_fast) if outer_fast else (self.ahead, 2))
+
+    def test_one_attempt_for_a_second_block(self):
+        for first_fast, first_left, second_fast, second_left in product((False, True), repeat=4):
+            for between in (False, True):
+                self.setUp()
+                attempt = Attempt(self.session)
+                for fast, left, way in ((first_fast, first_left, LESS), (second_fast, second_left, MORE)):
+                    ahead, many = self.session.result(), len(self.session)
+                    with self.assertRaises(Fault) if left else nullcontext():
+                        with attempt as told:
+                            self.assertIs(told, attempt)
+                            self.session.strike(way)
+                            behind = self.session.result()
+                            if fast:
+                                attempt.hold_fast()
+                            if left:
+                                raise Fault()
+                    self.look(*(behind, many + 1) if fast else (ahead, many))
+                    # Ahead of the second block this does nothing to it, and nothing behind a block.
+                    if between:
+                        attempt.hold_fast()
+                    self.look(*(behind, many + 1) if fast else (ahead, many))
+
+    def test_changes_between_two_blocks_of_one_attempt_stay(self):
+        for between in (False, True):
+            self.setUp()
+            attempt = Attempt(self.session)
+            with attempt:
+                self.session.strike(LESS)
+            self.session.strike(MORE)
+            if between:
+                attempt.hold_fast()
+            with attempt:
+                self.session.undo()
+                self.session.undo()
+            self.look(one_measure(["less", "same"]).limited(deep=3), 3)
+
+    def test_holding_fast_twice_and_changes_behind_it(self):
+        with Attempt(self.session) as attempt:
+            attempt.hold_fast()
+            self.session.strike(LESS)
+            attempt.hold_fast()
+            self.session.strike(MORE)
+        self.look(one_measure(["same"]).limited(deep=3), 4)
 
     def test_no_sessions(self):
         for value in odd_values() + [BOTH, Attempt(self.session)]:
