@@ -35,7 +35,7 @@ class Orders:
         # A state is a tuple of the bases of all words, and a tuple of the pairs that the packers have asked.
         self._start = ((None,) * len(self._words), (None,) * packers)
         # For the bases of each state the length of the longest chain, None for a ring, and the pairs that are let by.
-        self._facts = {}
+        self._known = {}
         # For each state, those of fewer deeds first, the state ahead of it and the deed that leads here.
         self._ahead = {self._start: None}
         self._go_through()
@@ -66,7 +66,7 @@ class Orders:
 
     def lost_forms(self):
         """The forms of all states with a ring, each once, in the order of their texts."""
-        ringed = [self._forms(bases) for bases in self._facts if self._facts[bases][0] is None]
+        ringed = [self._forms(bases) for bases in self._known if self._known[bases][0] is None]
         for forms in sorted(ringed, key=str):
             yield forms
 
@@ -74,11 +74,11 @@ class Orders:
         return dict(zip(self._words, bases))
 
     def _length(self, state):
-        return self._facts[state[0]][0]
+        return self._known[state[0]][0]
 
     def _behind(self, state):
         """A dict from the deeds at a state to the states behind them."""
-        length, pairs = self._facts[state[0]]
+        length, pairs = self._known[state[0]]
         return {} if length is None else states_behind(self._words, pairs, state)
 
     def _first_deeds(self, states):
@@ -108,10 +108,10 @@ class Orders:
             layer = found
 
     def _learn(self, bases):
-        if bases not in self._facts:
+        if bases not in self._known:
             forms = self._forms(bases)
             length = longest_in(forms)
-            self._facts[bases] = (length, [] if length is None else pairs_let(self._given, forms))
+            self._known[bases] = (length, [] if length is None else pairs_let(self._given, forms))
 
 
 def is_plain(value):

@@ -31,6 +31,8 @@ namedtuple NamedTuple TypedDict TYPE_CHECKING abstractmethod dataclass overload 
 ON_THE_SPOT = {"zip", "enumerate", "reversed", "range"}
 OPERATORS = set("""__contains__ __getitem__ __eq__ __len__ __or__ __and__ __sub__ __add__ __invert__ __le__ __lt__
 __ge__ __gt__ __bool__""".split())
+# What a class may have that is run by no sign: where it stands, a name may be a method and an attribute.
+NO_OPERATORS = {"__init__", "__enter__", "__exit__", "__call__"}
 # What is plainly a number or a string, and the keys that make it so.
 PLAIN_CALLS = {"int", "len", "str", "ord", "repr", "abs", "range"}
 PLAIN_KEYS = {"int", "len", "str"}
@@ -70,6 +72,71 @@ def is_iterated(node, parent):
         return parent.iter is node
     return isinstance(parent, ast.YieldFrom) or (
         isinstance(parent, ast.Call) and ast.unparse(parent.func) in ITERATING and node in parent.args)
+
+
+def called_names(node):
+    """The names of the functions, methods and classes that a function calls, or takes as a key."""
+    parts = [part.func for part in ast.walk(node) if isinstance(part, ast.Call)]
+    parts += [part.value for part in ast.walk(node) if isinstance(part, ast.keyword) and part.arg == "key"]
+    return {part.id if isinstance(part, ast.Name) else part.attr for part in parts
+            if isinstance(part, (ast.Name, ast.Attribute))}
+
+
+def called_attributes(node):
+    """The attributes that a function calls, or takes as a key."""
+    parts = [part.func for part in ast.walk(node) if isinstance(part, ast.Call)]
+    parts += [part.value for part in ast.walk(node) if isinstance(part, ast.keyword) and part.arg == "key"]
+    return [part for part in parts if isinstance(part, ast.Attribute)]
+
+
+def decorators_of(node):
+    return [ast.unparse(part) for part in node.decorator_list]
+
+
+def is_of_property(node):
+    """Whether a function is what is run where a property is read or assigned."""
+    return any(told == "property" or told.endswith(".setter") for told in decorators_of(node))
+
+
+def is_generator(node):
+    return any(isinstance(part, (ast.Yield, ast.YieldFrom)) for part in ast.walk(node))
+
+
+def is_simple(node):
+    """Whether a value may be assigned in an __exit__."""
+    if isinstance(node, (ast.List, ast.Tuple)):
+        return all(map(is_simple, node.elts))
+    if isinstance(node, ast.BinOp):
+        less = isinstance(node.op, ast.Sub) and isinstance(node.right, ast.Constant)
+        return (less or isinstance(node.op, ast.Add)) and is_simple(node.left) and is_simple(node.right)
+    return isinstance(node, (ast.Name, ast.Attribute, ast.Constant))
+
+
+def is_exit_test(node, kind, bare):
+    """Whether an __exit__ may ask this, where attributes and names may be asked alone, too, or not."""
+    if isinstance(node, ast.BoolOp):
+        return all(is_exit_test(part, kind, bare) for part in node.values)
+    if isinstance(node, ast.UnaryOp):
+        return isinstance(node.op, ast.Not) and is_exit_test(node.operand, kind, bare)
+    if isinstance(node, ast.Compare):
+        asked, sign, other = node.left, node.ops[0], node.comparators[-1]
+        alone = len(node.ops) == 1 and isinstance(asked, (ast.Name, ast.Attribute)) and isinstance(other, ast.Constant)
+        if alone and isinstance(sign, (ast.Is, ast.IsNot)):
+            return other.value is None
+        return alone and bare and ast.unparse(asked) != kind and not isinstance(sign, (ast.In, ast.NotIn))
+    return bare and isinstance(node, (ast.Name, ast.Attribute)) and ast.unparse(node) != kind
+
+
+def is_exit_row(node, kind, bare):
+    """Whether a statement may stand in an __exit__."""
+    if isinstance(node, ast.If):
+        rows = node.body + node.orelse
+        return is_exit_test(node.test, kind, bare) and all(is_exit_row(row, kind, bare) for row in rows)
+    if isinstance(node, ast.Return):
+        return node.value is None or isinstance(node.value, ast.Constant) and node.value.value in (None, False)
+    if isinstance(node, ast.Assign):
+        return all(isinstance(target, ast.Attribute) for target in node.targets) and is_simple(node.value)
+    return is_docstring(node) or isinstance(node, ast.Pass)
 
 
 def is_own_list(node):
@@ -116,6 +183,8 @@ class Look:
         self.own_methods = {item.name for tree in self.trees.values() for node in ast.walk(tree)
                             if isinstance(node, ast.ClassDef) for item in node.body
                             if isinstance(item, ast.FunctionDef)}
+        # An attribute alone is no test in an __exit__ where some class has an == or a length of its own.
+        self.bare = not self.own_methods & {"__eq__", "__len__"}
         self.own_errors = {node.name for tree in self.trees.values() for node in tree.body
                            if isinstance(node, ast.ClassDef)} - BUILTINS
         for name in texts:
@@ -125,6 +194,7 @@ class Look:
         self.look_at_imports()
         self.look_at_generators()
         self.look_at_what_operators_run()
+        self.look_at_names_of_both()
 
     def tell(self, rule, name, line):
         self.found.append((rule, name, line))
@@ -264,16 +334,58 @@ class Look:
                                           and is_iterated(call, parents[call])):
                     self.tell("L23", name, node.lineno)
 
+    def functions(self):
+        return [(name, node) for name, tree in self.trees.items() for node in ast.walk(tree)
+                if isinstance(node, ast.FunctionDef)]
+
+    def classes(self):
+        return [(name, node) for name, tree in self.trees.items() for node in ast.walk(tree)
+                if isinstance(node, ast.ClassDef)]
+
+    def look_at_names_of_both(self):
+        """A name that is a method of one class and an attribute of another is not called in what operators run."""
+        methods = [(name, item) for name, node in self.classes() for item in node.body
+                   if isinstance(item, ast.FunctionDef) and not is_of_property(item)]
+        stored = {part.attr for tree in self.trees.values() for part in ast.walk(tree)
+                  if isinstance(part, ast.Attribute) and isinstance(part.ctx, ast.Store)}
+        both = {item.name for _, item in methods} & stored
+        for name, item in methods:
+            if item.name in both and (item.decorator_list or is_generator(item)):
+                self.tell("L18", name, item.lineno)
+        for name, node in self.all_that_operators_run():
+            for part in called_attributes(node):
+                if part.attr in both:
+                    self.tell("L18", name, part.lineno)
+        # Where a name is both, no method is read off a class.
+        own = {node.name for _, node in self.classes()}
+        plain = {item.name for _, item in methods if not item.decorator_list}
+        for name, tree in self.trees.items():
+            for part in ast.walk(tree):
+                if both and isinstance(part, ast.Attribute) and part.attr in plain and ast.unparse(part.value) in own:
+                    self.tell("L18", name, part.lineno)
+
+    def all_that_operators_run(self):
+        """The operators, the properties, and all functions that may be called by them, judged by their names."""
+        inits = {node.name: [(name, item) for item in node.body
+                             if isinstance(item, ast.FunctionDef) and item.name == "__init__"]
+                 for name, node in self.classes()}
+        functions = self.functions()
+        run = [(name, node) for name, node in functions
+               if node.name in DOUBLE - NO_OPERATORS or is_of_property(node)]
+        for _, node in run:
+            called = called_names(node)
+            made = [pair for told in sorted(called & set(inits)) for pair in inits[told]]
+            run += [pair for pair in functions if pair[1].name in called and pair not in run]
+            run += [pair for pair in made if pair not in run]
+        return run
+
     def look_at_what_operators_run(self):
         """Operators, properties and all that they call change nothing but lists that they made themselves."""
-        functions = [(name, node) for name, tree in self.trees.items() for node in ast.walk(tree)
-                     if isinstance(node, ast.FunctionDef)]
+        functions = self.functions()
         run = [(name, node) for name, node in functions
-               if node.name in OPERATORS or "property" in [ast.unparse(part) for part in node.decorator_list]]
+               if node.name in OPERATORS or "property" in decorators_of(node)]
         for name, node in run:
-            called = {part.func.id if isinstance(part.func, ast.Name) else part.func.attr
-                      for part in ast.walk(node) if isinstance(part, ast.Call)
-                      and isinstance(part.func, (ast.Name, ast.Attribute))} - METHODS
+            called = called_names(node) - METHODS
             run += [pair for pair in functions if pair[1].name in called and pair not in run]
         for name, node in run:
             made = {part.targets[0].id for part in ast.walk(node) if isinstance(part, ast.Assign)
@@ -311,17 +423,26 @@ class Look:
                 isinstance(part, (ast.Attribute, ast.Subscript)) and not isinstance(part.ctx, ast.Load)
                 for part in ast.walk(node)):
             self.tell("L5", name, node.lineno)
-        if node.name == "__exit__" and not all(
-                is_docstring(part) or isinstance(part, (ast.If, ast.Pass)) or isinstance(part, ast.Assign)
-                and isinstance(part.value, (ast.Attribute, ast.Name, ast.Constant)) for part in ast.walk(node)
-                if isinstance(part, ast.stmt) and part is not node):
-            self.tell("L6", name, node.lineno)
+        if node.name == "__exit__":
+            self.look_at_exit(name, node)
         for default in node.args.defaults + [part for part in node.args.kw_defaults if part]:
             if any(isinstance(part, (ast.List, ast.Dict, ast.Set, ast.Call)) for part in ast.walk(default)):
                 self.tell("L4", name, node.lineno)
         local = {bound for bound, _ in bound_names(node)} - {node.name}
         if local & files_names:
             self.tell("L15", name, node.lineno)
+
+    def look_at_exit(self, name, node):
+        """The rows of an __exit__ are few, and ask of what it is told only whether kind is None."""
+        told = [part.arg for part in node.args.args[1:]] + [part.arg for part in [node.args.vararg] if part]
+        kind = told[0] if node.args.args[1:] else None
+        reads = [part for row in node.body for part in ast.walk(row) if isinstance(part, ast.Name) and part.id in told]
+        asked = [part.left for row in node.body for part in ast.walk(row) if isinstance(part, ast.Compare)]
+        if not all(part in asked and part.id == kind for part in reads):
+            self.tell("L6", name, node.lineno)
+        for row in node.body:
+            if not is_exit_row(row, kind, self.bare):
+                self.tell("L6", name, row.lineno)
 
     def look_at_class(self, name, node):
         if node.decorator_list or node.keywords:
@@ -419,6 +540,13 @@ class Look:
 MODULES = """errors rules walks falling store rings chains given joins live cells compared keepings losses mends sessions
 consoles notes orders packs""".split()
 LONG = "def f(k):\n" + "    k += 1\n" * 40
+EXIT = "class C:\n    def __exit__(self, kind, value, trace):\n"
+LENGTH = "class D:\n    def __len__(self):\n        return 1\n"
+EQUAL = "class D:\n    def __eq__(self, n):\n        return True\n"
+# A name that is a method of one class and an attribute of another one, and a function that calls it.
+METHOD = "class C:\n    def k(self):\n        return 1\n"
+ATTRIBUTE = "class D:\n    def __init__(self):\n        self.k = 1\n"
+CALLING = "def h(n):\n    return n.k()\n"
 BAD = [
     ("L1", "Odd.py", ""), ("L2", "a.py", "import os\n"), ("L2", "a.py", "import packedbases.b\n"),
     ("L2", "a.py", "from os import path\n"), ("L2", "a.py", "from math import floor\n"),
@@ -462,6 +590,32 @@ BAD = [
     ("L5", "a.py", "class C:\n    def __getitem__(self, at):\n        return at\n"),
     ("L5", "a.py", "class C:\n    def __contains__(self, at):\n        self.n = at\n        return True\n"),
     ("L6", "a.py", "class C:\n    def __exit__(self, kind, value, trace):\n        self.n = f(1)\n"),
+    ("L6", "a.py", EXIT + "        if not self.n:\n            self.m = self.n\n" + LENGTH),
+    ("L6", "a.py", EXIT + "        if self.n:\n            self.m = self.n\n" + EQUAL),
+    ("L6", "a.py", EXIT + "        if kind is None and self.n:\n            self.m = self.n\n" + LENGTH),
+    ("L6", "a.py", EXIT + "        if self.n == 1:\n            self.m = self.n\n" + LENGTH),
+    ("L6", "a.py", EXIT + "        if self.n is False:\n            self.m = self.n\n"),
+    ("L6", "a.py", EXIT + "        if self.f():\n            self.m = self.n\n"),
+    ("L6", "a.py", EXIT + "        if self.n is None:\n            self.m = self.f()\n"),
+    ("L6", "a.py", EXIT + "        if not kind:\n            self.m = self.n\n"),
+    ("L6", "a.py", EXIT + "        if value is None:\n            self.m = self.n\n"),
+    ("L6", "a.py", EXIT + "        self.m = kind\n"), ("L6", "a.py", EXIT + "        return True\n"),
+    ("L6", "a.py", EXIT + "        self.m = self.n[0]\n"), ("L6", "a.py", EXIT + "        m = self.n\n"),
+    ("L6", "a.py", "class C:\n    def __exit__(self, *told):\n        self.m = told\n"),
+    ("L18", "a.py", METHOD + ATTRIBUTE + "    def __eq__(self, n):\n        return n.k() == 1\n"),
+    ("L18", "a.py", METHOD + ATTRIBUTE + "    def __len__(self):\n        return len(h(self))\n" + CALLING),
+    ("L18", "a.py", METHOD + ATTRIBUTE + "    def __le__(self, n):\n        return self.n(n)\n"
+     "    def n(self, m):\n        return h(m)\n" + CALLING),
+    ("L18", "a.py", METHOD + ATTRIBUTE + "    @property\n    def n(self):\n        return h(self)\n" + CALLING),
+    ("L18", "a.py", METHOD + ATTRIBUTE + "    def __setitem__(self, at, n):\n        self.m = n.k()\n"),
+    ("L18", "a.py", METHOD + ATTRIBUTE + "    def __or__(self, n):\n        return E(n)\n"
+     "class E:\n    def __init__(self, n):\n        self.n = h(n)\n" + CALLING),
+    ("L18", "a.py", METHOD + ATTRIBUTE + "    def __and__(self, n):\n        return max(n, key=self.m.k)\n"),
+    ("L18", "a.py", "from packedbases.c import C\n" + ATTRIBUTE + "    def __contains__(self, n):\n"
+     "        return C().k() == n\n"),
+    ("L18", "a.py", METHOD + ATTRIBUTE + "def f(n):\n    return C.k(n)\n"),
+    ("L18", "a.py", "class C:\n    @staticmethod\n    def k():\n        return 1\n" + ATTRIBUTE),
+    ("L18", "a.py", "class C:\n    def k(self):\n        yield 1\n" + ATTRIBUTE),
     ("L15", "a.py", "K = {1: 2}\ndef f():\n    return f(K)\n"), ("L15", "a.py", "K = [1]\ndef f():\n    return K\n"),
     ("L15", "a.py", "K = {1: 2}\ndef f():\n    K[1] = 3\n"), ("L24", "a.py", "def f():\n    k = set()\n"),
     ("L27", "a.py", "K = \"5%\"\n"), ("L27", "a.py", "def f(k):\n    return 2 ** k\n"),
@@ -520,9 +674,9 @@ class LanguageTest(unittest.TestCase):
         self.assertEqual(Look(texts).found, [])
 
     def test_the_script_finds_each_fault(self):
-        helper = "def g(k):\n    return k\n"
+        helpers = {"b.py": "def g(k):\n    return k\n", "c.py": METHOD}
         for rule, name, text in BAD:
-            found = Look({name: text, "b.py": helper}).found
+            found = Look({name: text, **helpers}).found
             self.assertIn(rule, [told for told, _, _ in found], text)
 
     def test_the_script_finds_files_that_import_from_each_other(self):
@@ -532,6 +686,17 @@ class LanguageTest(unittest.TestCase):
 
     def test_the_script_finds_nothing_in_good_code(self):
         self.assertEqual(Look({"a.py": FINE, "b.py": "def g(k):\n    return k\n"}).found, [])
+
+    def test_the_script_finds_nothing_in_names_that_are_both_beside_operators(self):
+        beside = METHOD + ATTRIBUTE + "    def __len__(self):\n        return len([self.k])\n" + CALLING
+        self.assertEqual(Look({"a.py": beside}).found, [])
+
+    def test_the_script_finds_nothing_in_good_exits(self):
+        asked = "        if kind is None and not (self.n is None or self.m is not None):\n            self.m = [self.n]\n"
+        alone = "        if self.n or not self.m == 2:\n            self.m = self.n + 1\n            return False\n"
+        kept = "        self.n = self.m.n\n"
+        for rows, beside in ((asked, LENGTH), (alone, ""), ("        pass\n", ""), (kept, EQUAL)):
+            self.assertEqual(Look({"a.py": EXIT + rows + beside}).found, [])
 
 
 if __name__ == "__main__":
