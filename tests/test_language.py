@@ -365,19 +365,27 @@ class Look:
                     self.tell("L18", name, part.lineno)
 
     def all_that_operators_run(self):
-        """The operators, the properties, and all functions that may be called by them, judged by their names."""
-        inits = {node.name: [(name, item) for item in node.body
-                             if isinstance(item, ast.FunctionDef) and item.name == "__init__"]
-                 for name, node in self.classes()}
+        """The operators, the properties, and all functions that may be run by them, judged by the names in them."""
         functions = self.functions()
+        inits = {id(item): node.name for _, node in self.classes() for item in node.body
+                 if isinstance(item, ast.FunctionDef) and item.name == "__init__"}
         run = [(name, node) for name, node in functions
                if node.name in DOUBLE - NO_OPERATORS or is_of_property(node)]
         for _, node in run:
-            called = called_names(node)
-            made = [pair for told in sorted(called & set(inits)) for pair in inits[told]]
-            run += [pair for pair in functions if pair[1].name in called and pair not in run]
-            run += [pair for pair in made if pair not in run]
+            named = self.named_in(node)
+            run += [pair for pair in functions if inits.get(id(pair[1]), pair[1].name) in named and pair not in run]
         return run
+
+    def named_in(self, node):
+        """All names in a function, and what they stand for in tables and imports."""
+        named = {part.id if isinstance(part, ast.Name) else part.attr for part in ast.walk(node)
+                 if isinstance(part, (ast.Name, ast.Attribute))}
+        if any(isinstance(part, ast.With) for part in ast.walk(node)):
+            named |= {"__enter__", "__exit__"}
+        named |= {alias.name for tree in self.trees.values() for part in tree.body if isinstance(part, ast.ImportFrom)
+                  for alias in part.names if alias.asname in named}
+        return named | {part.id for tree in self.trees.values() for row in tree.body if isinstance(row, ast.Assign)
+                        and row.targets[0].id in named for part in ast.walk(row.value) if isinstance(part, ast.Name)}
 
     def look_at_what_operators_run(self):
         """Operators, properties and all that they call change nothing but lists that they made themselves."""
@@ -611,6 +619,12 @@ BAD = [
     ("L18", "a.py", METHOD + ATTRIBUTE + "    def __or__(self, n):\n        return E(n)\n"
      "class E:\n    def __init__(self, n):\n        self.n = h(n)\n" + CALLING),
     ("L18", "a.py", METHOD + ATTRIBUTE + "    def __and__(self, n):\n        return max(n, key=self.m.k)\n"),
+    ("L18", "a.py", CALLING + "K = {1: h}\n" + METHOD + ATTRIBUTE + "    def __add__(self, n):\n        f = K[n]\n"
+     "        return f(n)\n"),
+    ("L18", "a.py", "from packedbases.d import h as f\n" + METHOD + ATTRIBUTE + "    def __add__(self, n):\n"
+     "        return f(n)\n"),
+    ("L18", "a.py", METHOD + ATTRIBUTE + "    def __add__(self, n):\n        with E() as m:\n            return m\n"
+     "class E:\n    def __enter__(self):\n        return h(self)\n" + CALLING),
     ("L18", "a.py", "from packedbases.c import C\n" + ATTRIBUTE + "    def __contains__(self, n):\n"
      "        return C().k() == n\n"),
     ("L18", "a.py", METHOD + ATTRIBUTE + "def f(n):\n    return C.k(n)\n"),
@@ -674,7 +688,7 @@ class LanguageTest(unittest.TestCase):
         self.assertEqual(Look(texts).found, [])
 
     def test_the_script_finds_each_fault(self):
-        helpers = {"b.py": "def g(k):\n    return k\n", "c.py": METHOD}
+        helpers = {"b.py": "def g(k):\n    return k\n", "c.py": METHOD, "d.py": CALLING}
         for rule, name, text in BAD:
             found = Look({name: text, **helpers}).found
             self.assertIn(rule, [told for told, _, _ in found], text)
